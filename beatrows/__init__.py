@@ -1,0 +1,1 @@
+"""Beatrows: rows of beats told by equations."""

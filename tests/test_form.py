@@ -1,0 +1,139 @@
+"""Looks at the package's files: the interface's names, and the form in which they are written."""
+
+import ast
+import os
+import unittest
+
+import beatrows
+
+FOLDER = os.path.dirname(os.path.abspath(beatrows.__file__))
+
+TERM = {
+    "names": [], "levels": [], "reckoned_by": ["values"], "renamed": ["names"], "told": [], "words": [],
+}
+FUNCTIONS = {
+    "words": {
+        "is_whole": ["thing"], "is_within": ["thing", "low", "high"], "is_name": ["thing"], "is_pointed": ["thing"],
+        "is_value": ["thing"], "own_words": [], "value_text": ["value"], "value_of": ["thing"],
+    },
+    "sums": {"ops_told": [], "reckoned": ["op", "one", "other"], "contrary": ["one"]},
+    "terms": {"term_of": ["told"]},
+}
+CLASSES = {
+    "terms": {
+        "Name": {"__init__": ["name"], **TERM}, "Value": {"__init__": ["value"], **TERM},
+        "Two": {"__init__": ["op", "one", "other"], **TERM}, "Not": {"__init__": ["one"], **TERM},
+        "Pick": {"__init__": ["by", "one", "other"], **TERM}, "Term": {},
+    },
+}
+BUILTINS = (
+    "len range enumerate zip min max sum abs sorted reversed int str bool bytes list tuple dict set frozenset "
+    "isinstance ord repr any all divmod pow ValueError"
+).split()
+
+
+def files():
+    """Each file of the package, its text and its tree, by its name without the ending."""
+    found = {}
+    for name in sorted(os.listdir(FOLDER)):
+        if name != "__pycache__":
+            with open(os.path.join(FOLDER, name), encoding="utf-8") as held:
+                text = held.read()
+            found[name.removesuffix(".py")] = (name, text, ast.parse(text))
+    return found
+
+
+def defined(tree, kind):
+    return {row.name: row for row in tree.body if isinstance(row, kind)}
+
+
+def parameters(function):
+    return [each.arg for each in function.args.args]
+
+
+class InterfaceTest(unittest.TestCase):
+    def test_functions_are_defined_in_their_files(self):
+        for file, functions in FUNCTIONS.items():
+            found = defined(files()[file][2], ast.FunctionDef)
+            for name, wanted in functions.items():
+                self.assertEqual(parameters(found[name]), wanted, name)
+
+    def test_classes_define_their_methods_themselves(self):
+        for file, classes in CLASSES.items():
+            found = defined(files()[file][2], ast.ClassDef)
+            for name, methods in classes.items():
+                own = {row.name: row for row in found[name].body if isinstance(row, ast.FunctionDef)}
+                for method, wanted in methods.items():
+                    self.assertEqual(parameters(own[method]), ["self", *wanted], f"{name}.{method}")
+
+
+class FormTest(unittest.TestCase):
+    def test_files(self):
+        for name, text, _ in files().values():
+            self.assertTrue(name.endswith(".py"), name)
+            self.assertEqual([sign for sign in text if sign != "\n" and not " " <= sign <= "~"], [], name)
+            rows = text.split("\n")
+            self.assertLessEqual(len(rows), 399, name)
+            self.assertLessEqual(max(len(row) for row in rows), 120, name)
+
+    def test_functions_are_small_and_without_decorators(self):
+        for name, _, tree in files().values():
+            for row in ast.walk(tree):
+                if isinstance(row, (ast.FunctionDef, ast.ClassDef)):
+                    self.assertEqual(row.decorator_list, [], f"{name} {row.name}")
+                if isinstance(row, ast.FunctionDef):
+                    self.assertLessEqual(row.end_lineno - row.lineno + 1, 40, f"{name} {row.name}")
+
+    def test_modules_contain_only_what_they_may(self):
+        kinds = (ast.ImportFrom, ast.FunctionDef, ast.ClassDef, ast.Assign)
+        for name, _, tree in files().values():
+            for row in tree.body[1:]:
+                self.assertIsInstance(row, kinds, name)
+            self.assertTrue(ast.get_docstring(tree), name)
+
+    def test_imports_name_the_files_that_define_the_names(self):
+        trees = files()
+        for name, _, tree in trees.values():
+            for row in ast.walk(tree):
+                self.assertNotIsInstance(row, ast.Import, name)
+                if isinstance(row, ast.ImportFrom):
+                    package, file = row.module.split(".")
+                    self.assertEqual((package, row.level), ("beatrows", 0), name)
+                    other = trees[file][2]
+                    known = [*defined(other, ast.FunctionDef), *defined(other, ast.ClassDef)]
+                    known += [each.targets[0].id for each in other.body if isinstance(each, ast.Assign)]
+                    for alias in row.names:
+                        self.assertIn(alias.name, known, name)
+                        self.assertIsNone(alias.asname, name)
+
+    def test_no_two_files_import_from_each_other(self):
+        rests = {}
+        for name, (_, _, tree) in files().items():
+            rests[name] = {row.module.split(".")[1] for row in tree.body if isinstance(row, ast.ImportFrom)}
+        while rests:
+            free = [name for name, others in rests.items() if not others & set(rests)]
+            self.assertTrue(free, rests)
+            for name in free:
+                del rests[name]
+
+    def test_builtins_and_texts(self):
+        for name, _, tree in files().values():
+            own = set(BUILTINS)
+            for row in ast.walk(tree):
+                if isinstance(row, (ast.FunctionDef, ast.ClassDef)):
+                    own.add(row.name)
+                if isinstance(row, ast.ImportFrom):
+                    own.update(alias.name for alias in row.names)
+                if isinstance(row, ast.arg):
+                    own.add(row.arg)
+            for row in ast.walk(tree):
+                if isinstance(row, ast.Call) and isinstance(row.func, ast.Name):
+                    self.assertIn(row.func.id, own, name)
+                if isinstance(row, ast.Constant):
+                    self.assertNotIsInstance(row.value, (float, bytes), name)
+                if isinstance(row, ast.Constant) and isinstance(row.value, str):
+                    self.assertNotIn("%", row.value, name)
+
+
+if __name__ == "__main__":
+    unittest.main()
