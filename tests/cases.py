@@ -2,7 +2,9 @@
 
 import unittest
 
+from beatrows.equations import equation_of
 from beatrows.errors import BeatError, NoName, NoText
+from beatrows.nodes import Node
 from beatrows.terms import Name, Not, Pick, Two, Value
 
 
@@ -52,6 +54,8 @@ def no_texts():
         BeatError("text"), NoName(["a"]), NoText(0),
         Name("a"), Value(1), Not(Name("a")), Two("+", Name("a"), Value(1)),
         Pick(Name("a"), Value(1), Value(2)),
+        equation_of(("like", "x", 1, "a")), equation_of(("same", ("a", "b"))),
+        Node("n", ["a"], ["x"], [("like", "x", 1, "a")]),
         nested(20, "a", lambda thing: [thing]),
         nested(20, "a", lambda thing: (thing,)),
         nested(20, "a", lambda thing: {"a": thing}),

@@ -11,6 +11,9 @@ FOLDER = os.path.dirname(os.path.abspath(beatrows.__file__))
 TERM = {
     "names": [], "levels": [], "reckoned_by": ["values"], "renamed": ["names"], "told": [], "words": [],
 }
+EQUATION = {
+    "told": [], "tells": [], "names": [], "term": [], "is_call": [], "renamed": ["names"], "words": [],
+}
 FUNCTIONS = {
     "words": {
         "is_whole": ["thing"], "is_within": ["thing", "low", "high"], "is_name": ["thing"], "is_pointed": ["thing"],
@@ -18,12 +21,26 @@ FUNCTIONS = {
     },
     "sums": {"ops_told": [], "reckoned": ["op", "one", "other"], "contrary": ["one"]},
     "terms": {"term_of": ["told"]},
+    "termtext": {"read_term": ["text"]},
+    "equations": {"equation_of": ["told"]},
+    "nodes": {"node_of": ["told"], "same_node": ["one", "other"]},
+    "nodetext": {"show_node": ["node"], "show_nodes": ["nodes"], "read_node": ["text"], "read_nodes": ["text"]},
 }
 CLASSES = {
     "terms": {
         "Name": {"__init__": ["name"], **TERM}, "Value": {"__init__": ["value"], **TERM},
         "Two": {"__init__": ["op", "one", "other"], **TERM}, "Not": {"__init__": ["one"], **TERM},
         "Pick": {"__init__": ["by", "one", "other"], **TERM}, "Term": {},
+    },
+    "equations": {
+        "Plain": EQUATION, "Before": EQUATION, "When": EQUATION, "Hold": EQUATION, "Like": EQUATION,
+        "Same": EQUATION, "Call": EQUATION, "Equation": {},
+    },
+    "nodes": {
+        "Node": {
+            "__init__": ["name", "inputs", "outs", "rows"], "inputs": [], "outs": [], "names": [], "rows": [],
+            "teller": ["name"], "has_calls": [], "told": [],
+        },
     },
 }
 BUILTINS = (
