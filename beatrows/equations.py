@@ -6,11 +6,28 @@ from beatrows.words import each_once, is_name, is_pointed, is_value, name_for, v
 
 
 class Equation:
-    """Any equation; only objects of the seven classes below are made.
+    """Any equation; only objects of the seven classes below are made, and these tell all by themselves."""
 
-    Each tells told(), tells(), names(), term(), is_call() and words();
-    renamed(names) tells it with other names.
-    """
+    def told(self):
+        raise NotImplementedError
+
+    def tells(self):
+        raise NotImplementedError
+
+    def names(self):
+        raise NotImplementedError
+
+    def term(self):
+        raise NotImplementedError
+
+    def is_call(self):
+        raise NotImplementedError
+
+    def renamed(self, names):
+        raise NotImplementedError
+
+    def words(self):
+        raise NotImplementedError
 
 
 class Plain(Equation):

@@ -8,11 +8,25 @@ LEVELS = 5
 
 
 class Term:
-    """Any term; only objects of the five classes below are made.
+    """Any term; only objects of the five classes below are made, and these tell all by themselves."""
 
-    Each tells names(), levels(), told() and words(); reckoned_by(values) and
-    renamed(names) tell what comes of it.
-    """
+    def names(self):
+        raise NotImplementedError
+
+    def levels(self):
+        raise NotImplementedError
+
+    def reckoned_by(self, values):
+        raise NotImplementedError
+
+    def renamed(self, names):
+        raise NotImplementedError
+
+    def told(self):
+        raise NotImplementedError
+
+    def words(self):
+        raise NotImplementedError
 
 
 class Name(Term):

@@ -1,5 +1,6 @@
 """What the tests share: a case that looks at refusals, and things of every kind."""
 
+import inspect
 import unittest
 
 from beatrows.equations import equation_of
@@ -28,6 +29,13 @@ class BeatCase(unittest.TestCase):
         if found is not wanted:
             self.assertEqual(repr(found), repr(wanted))
             self.assertEqual(found, wanted)
+
+    def assert_own_methods(self, kind, methods):
+        """The class defines each method in its own body, with just these parameters behind self."""
+        for method, wanted in methods.items():
+            self.assertIn(method, vars(kind), kind)
+            taken = inspect.getfullargspec(vars(kind)[method])
+            self.assertEqual(taken, (["self", *wanted], None, None, None, [], None, {}), f"{kind} {method}")
 
     def assert_new_list(self, tell, wanted):
         """A list that is told anew each time."""

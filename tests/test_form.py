@@ -30,11 +30,11 @@ CLASSES = {
     "terms": {
         "Name": {"__init__": ["name"], **TERM}, "Value": {"__init__": ["value"], **TERM},
         "Two": {"__init__": ["op", "one", "other"], **TERM}, "Not": {"__init__": ["one"], **TERM},
-        "Pick": {"__init__": ["by", "one", "other"], **TERM}, "Term": {},
+        "Pick": {"__init__": ["by", "one", "other"], **TERM}, "Term": TERM,
     },
     "equations": {
         "Plain": EQUATION, "Before": EQUATION, "When": EQUATION, "Hold": EQUATION, "Like": EQUATION,
-        "Same": EQUATION, "Call": EQUATION, "Equation": {},
+        "Same": EQUATION, "Call": EQUATION, "Equation": EQUATION,
     },
     "nodes": {
         "Node": {

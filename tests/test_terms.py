@@ -7,7 +7,7 @@ from beatrows.terms import Name, Not, Pick, Term, Two, Value, term_of
 
 from cases import BeatCase, nested, no_texts, wild_texts
 
-METHODS = ["names", "levels", "reckoned_by", "renamed", "told", "words"]
+METHODS = {"names": [], "levels": [], "reckoned_by": ["values"], "renamed": ["names"], "told": [], "words": []}
 
 
 def of_levels(many):
@@ -18,10 +18,12 @@ class MadeTest(BeatCase):
     def test_kinds_stand_straight_under_term(self):
         for kind in (Name, Value, Two, Not, Pick):
             self.assertEqual(kind.__bases__, (Term,))
-            for method in METHODS:
-                self.assertIn(method, vars(kind))
         self.assertEqual(len(Term.__subclasses__()), 5)
         self.assertEqual(terms.term_of.__module__, "beatrows.terms")
+
+    def test_term_and_the_kinds_under_it_define_each_method_in_their_own_body(self):
+        for kind in (Term, Name, Value, Two, Not, Pick):
+            self.assert_own_methods(kind, METHODS)
 
     def test_no_names(self):
         for thing in [*no_texts(), *wild_texts(), *"before when true".split()]:
