@@ -6,6 +6,7 @@ import unittest
 from beatrows.equations import equation_of
 from beatrows.errors import BeatError, NoName, NoText
 from beatrows.nodes import Node
+from beatrows.programs import Program
 from beatrows.terms import Name, Not, Pick, Two, Value
 
 
@@ -64,6 +65,7 @@ def no_texts():
         Pick(Name("a"), Value(1), Value(2)),
         equation_of(("like", "x", 1, "a")), equation_of(("same", ("a", "b"))),
         Node("n", ["a"], ["x"], [("like", "x", 1, "a")]),
+        Program([Node("n", ["a"], ["x"], [("like", "x", 1, "a")])]),
         nested(20, "a", lambda thing: [thing]),
         nested(20, "a", lambda thing: (thing,)),
         nested(20, "a", lambda thing: {"a": thing}),
@@ -80,3 +82,39 @@ def wild_texts():
         "abcdefghi", "node", "mod", "beat.a", "-", "--1", "+1", "-0", "00", "07", "1.0", "1 ",
         "true ", "True", "None", "1000000001", "9" * 20000, "a" * 20000, "." * 20000, " " * 20000,
     ]
+
+
+def some_node(chance, many, kinds=("plain", "plain", "before", "when", "hold", "like", "same")):
+    """A node of rows of these kinds, by chance; whether it has clocks and an order is another question."""
+    inputs = ["a", "b", "c"][:chance.randint(1, 3)]
+    told = [f"{'pqrstuvw'[at // 8]}{'pqrstuvw'[at % 8]}" for at in range(many)]
+    rows = []
+    for at, name in enumerate(told):
+        # Mostly names told ahead, so that clocks follow and few rings come.
+        near = [*inputs, *inputs, *told[:at]] if chance.random() < 0.85 else [*inputs, *told]
+        kind = chance.choice(kinds)
+        while kind == "same":
+            rows.append(("same", tuple(chance.choices([*inputs, *told], k=chance.randint(2, 3)))))
+            kind = chance.choice(kinds)
+        rows.append(_some_row(chance, kind, name, near))
+    chance.shuffle(rows)
+    return Node("n", inputs, chance.sample(told, min(many, chance.randint(1, 3))), rows)
+
+
+def _some_row(chance, kind, name, near):
+    one, other = chance.choice(near), chance.choice(near)
+    value = chance.choice([0, 1, -3, 7, True, False, 10 ** 9])
+    if kind == "plain":
+        return ("plain", name, _some_term(chance, one, other, value))
+    if kind == "when":
+        return ("when", name, one, other)
+    return (kind, name, value, one)
+
+
+def _some_term(chance, one, other, value):
+    one, other = ("name", one), ("name", other)
+    return chance.choice([
+        one, ("two", "<", one, ("value", 2)), ("two", "=", one, one), ("not", ("two", "<", one, ("value", 1))),
+        ("two", chance.choice("+-*/<=&|"), one, ("value", value)), ("two", chance.choice("+-*"), one, other),
+        ("two", "mod", one, ("value", 3)), ("pick", ("two", "<", one, ("value", 3)), one, ("value", value)),
+    ])

@@ -25,6 +25,20 @@ FUNCTIONS = {
     "equations": {"equation_of": ["told"]},
     "nodes": {"node_of": ["told"], "same_node": ["one", "other"]},
     "nodetext": {"show_node": ["node"], "show_nodes": ["nodes"], "read_node": ["text"], "read_nodes": ["text"]},
+    "programs": {"program_of": ["told"], "show_program": ["program"], "read_program": ["text"]},
+    "writing": {
+        "how_many": ["program", "name"], "written_out": ["program", "name"],
+        "where_from": ["program", "name", "inner"], "name_at": ["program", "name", "firsts", "own"],
+    },
+    "clocks": {
+        "clocks_of": ["node"], "clock_paper": ["node"], "ticks": ["clock", "values"], "names_by_clock": ["node"],
+        "clock_beside": ["node", "one", "other"],
+    },
+    "clockpapers": {"is_clock_paper": ["node", "thing"], "is_clash": ["node", "thing"]},
+    "reading": {
+        "reads_of": ["node", "clocks"], "reached_from": ["node", "clocks", "name"],
+        "way_between": ["node", "clocks", "one", "other"], "is_way": ["node", "clocks", "one", "other", "thing"],
+    },
 }
 CLASSES = {
     "terms": {
@@ -40,6 +54,11 @@ CLASSES = {
         "Node": {
             "__init__": ["name", "inputs", "outs", "rows"], "inputs": [], "outs": [], "names": [], "rows": [],
             "teller": ["name"], "has_calls": [], "told": [],
+        },
+    },
+    "programs": {
+        "Program": {
+            "__init__": ["nodes"], "names": [], "named": ["name"], "calls_in": ["name"], "below": ["name"], "told": [],
         },
     },
 }
