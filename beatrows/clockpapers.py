@@ -30,7 +30,7 @@ def clashes(inputs, links, groups, thing):
     if found is None:
         return False
     if word == "two":
-        return one == other and len(_clocks_in(found, one)) > 1
+        return len(_clocks_in(found, one)) > 1 and one == other
     if word == "hold":
         return (one, other, None) in links and () in _clocks_in(found, other)
     if word == "same":
@@ -77,9 +77,7 @@ def _clocks_in(found, name):
 
 
 def _are_grouped(groups, one, other):
-    if one == other:
-        return False
-    return any([one in group and other in group for group in groups])
+    return any([one in group and other in group and one != other for group in groups])
 
 
 def _are_unlike(first, second):

@@ -3,9 +3,11 @@
 import inspect
 import unittest
 
+from beatrows.clocks import clocks_of
 from beatrows.equations import equation_of
 from beatrows.errors import BeatError, NoName, NoText
 from beatrows.nodes import Node
+from beatrows.orders import need_sound
 from beatrows.programs import Program
 from beatrows.terms import Name, Not, Pick, Two, Value
 
@@ -118,3 +120,171 @@ def _some_term(chance, one, other, value):
         ("two", chance.choice("+-*/<=&|"), one, ("value", value)), ("two", chance.choice("+-*"), one, other),
         ("two", "mod", one, ("value", 3)), ("pick", ("two", "<", one, ("value", 3)), one, ("value", value)),
     ])
+
+
+def sound_node(chance, many):
+    """A sound node of rows of all kinds on clocks some levels deep; and by name whether it is a truth, as a rule."""
+    names = chance.sample([f"{one}{other}" for one in "lmnopqrstuvwxyz" for other in "abcdefghij"], many + 4)
+    inputs, told = names[:4], names[4:]
+    truths = {name: at % 2 == 0 for at, name in enumerate(inputs)}
+    clocks = {(): list(inputs)}
+    rows, late = [], []
+    for name in told:
+        clock = chance.choice(list(clocks))
+        kind = chance.choice(["plain", "plain", "plain", "when", "when", "hold", "before", "like"])
+        one, other = chance.choice(clocks[clock]), chance.choice(clocks[clock])
+        truths[name] = chance.random() < 0.5
+        if kind == "plain":
+            rows.append(("plain", name, _fitting_term(chance, clocks[clock], truths, truths[name], 2)))
+        elif kind == "when":
+            other = chance.choice([each for each in clocks[clock] if truths[each]] or clocks[clock])
+            rows.append(("when", name, one, other))
+            truths[name], clock = truths[one], (*clock, other)
+        elif kind == "hold" and clock:
+            rows.append(("hold", name, truths[one] if chance.random() < 0.9 else 7, one))
+            truths[name], clock = truths[one], clock[:-1]
+        elif kind == "like":
+            rows.append(("like", name, True if truths[name] else chance.randint(0, 3), one))
+        else:
+            late.append((name, clock))
+        clocks.setdefault(clock, []).append(name)
+    # Befores may be fed back, by names that are told behind them.
+    for name, clock in late:
+        fitting = [each for each in clocks[clock] if truths[each] == truths[name]] or clocks[clock]
+        rows.append(("before", name, True if truths[name] else chance.randint(0, 3), chance.choice(fitting)))
+    if chance.random() < 0.5:
+        rows.append(("same", tuple(chance.choices(clocks[chance.choice(list(clocks))], k=chance.randint(2, 4)))))
+    rows = [row for row in rows if _mentions(row)]
+    known = {*inputs, *[row[1] for row in rows if row[0] != "same"]}
+    chance.shuffle(rows)
+    outs = chance.sample(sorted(known - set(inputs)), min(3, len(known) - 4))
+    try:
+        node = Node("n", inputs, outs, rows)
+        need_sound(node)
+        return node, truths
+    except BeatError:
+        return sound_node(chance, many)
+
+
+def _mentions(row):
+    return row[0] != "plain" or equation_of(row).names()
+
+
+def _fitting_term(chance, near, truths, truth, levels):
+    """A term that comes to a truth, or to a number, as a rule."""
+    fitting = [name for name in near if truths[name] == truth]
+    if chance.random() < 0.01:
+        fitting = near
+    if levels == 0 or chance.random() < 0.2:
+        if fitting and chance.random() < 0.8:
+            return ("name", chance.choice(fitting))
+        return ("value", chance.random() < 0.7 if truth else chance.randint(-2, 4))
+    inner = [(chance, near, truths, kind, levels - 1) for kind in (True, False)]
+    if chance.random() < 0.15:
+        return ("pick", _fitting_term(*inner[0]), _fitting_term(*inner[not truth]), _fitting_term(*inner[not truth]))
+    if not truth and chance.random() < 0.2:
+        by = _fitting_term(*inner[1]) if chance.random() < 0.2 else ("value", 3)
+        return ("two", chance.choice(["/", "mod"]), _fitting_term(*inner[1]), by)
+    if not truth:
+        return ("two", chance.choice("+-+-*"), _fitting_term(*inner[1]), _fitting_term(*inner[1]))
+    if chance.random() < 0.3:
+        return ("not", _fitting_term(*inner[0]))
+    if chance.random() < 0.5:
+        return ("two", "<", _fitting_term(*inner[1]), _fitting_term(*inner[1]))
+    return ("two", chance.choice("||&="), _fitting_term(*inner[0]), _fitting_term(*inner[0]))
+
+
+def some_rows(chance, node, truths, many):
+    """So many rows of inputs."""
+    rows = []
+    for _ in range(many):
+        row = {}
+        for name in node.inputs():
+            truth = truths[name] if chance.random() < 0.995 else not truths[name]
+            row[name] = chance.random() < 0.7 if truth else chance.randint(-3, 4)
+            if not truth and chance.random() < 0.01:
+                row[name] = 10 ** 9
+        rows.append(row)
+    return rows
+
+
+def came_to(told, values):
+    """What a term's tuple comes to: the value, or the word of the fault in a list."""
+    if told[0] == "name":
+        return values[told[1]]
+    if told[0] == "value":
+        return told[1]
+    inner = []
+    for part in [part for part in told[1:] if isinstance(part, tuple)]:
+        inner.append(came_to(part, values))
+        if isinstance(inner[-1], list):
+            return inner[-1]
+    are_truths = [isinstance(value, bool) for value in inner]
+    if told[0] == "pick":
+        return (inner[1] if inner[0] else inner[2]) if are_truths[0] else ["kind"]
+    if told[0] == "not":
+        return not inner[0] if are_truths[0] else ["kind"]
+    if told[1] == "=":
+        return inner[0] == inner[1] if are_truths[0] == are_truths[1] else ["kind"]
+    if are_truths != [told[1] in "&|"] * 2:
+        return ["kind"]
+    if told[1] in ("/", "mod") and inner[1] == 0:
+        return ["nought"]
+    value = {
+        "+": lambda one, other: one + other, "-": lambda one, other: one - other, "*": lambda one, other: one * other,
+        "/": lambda one, other: one // other, "mod": lambda one, other: one % other,
+        "<": lambda one, other: one < other, "&": lambda one, other: one and other,
+        "|": lambda one, other: one or other,
+    }[told[1]](*inner)
+    return value if abs(value) <= 10 ** 9 else ["great"]
+
+
+class Played:
+    """A run of a sound node, worked out name by name from the document's words alone."""
+
+    def __init__(self, node, rows):
+        self.node, self.rows, self.clocks = node, rows, clocks_of(node)
+        self.told, self.faults, self.lost = [], None, []
+        while self.faults is None and len(self.told) < len(rows):
+            self.known = {}
+            states = {name: self.state(name) for name in node.names()}
+            faults = sorted((name, value) for name, (word, value) in states.items() if word == "fault")
+            if faults:
+                self.faults = (len(self.told), faults)
+                self.lost = [name for name, (word, _) in states.items() if word == "lost"]
+            else:
+                self.told.append({name: value for name, (word, value) in states.items() if word == "value"})
+
+    def state(self, name):
+        if name not in self.known:
+            self.known[name] = self.found(name)
+        return self.known[name]
+
+    def found(self, name):
+        clock, row = self.clocks[name], self.node.teller(name)
+        if clock and self.state(clock[-1])[0] in ("lost", "fault"):
+            return ("lost", None)
+        if clock and (self.state(clock[-1])[0] == "still" or self.state(clock[-1])[1] is not True):
+            return ("still", None)
+        if row is None:
+            return ("value", self.rows[len(self.told)][name])
+        kind, told = row.told()[0], row.told()
+        if kind == "like":
+            return ("value", told[2])
+        if kind == "before":
+            return ("value", self.latest(told[3], told[2]))
+        if any(self.state(each)[0] in ("lost", "fault") for each in row.names()):
+            return ("lost", None)
+        if kind == "hold":
+            word, value = self.state(told[3])
+            return ("value", value if word == "value" else self.latest(told[3], told[2]))
+        if any(self.state(each)[0] == "still" for each in row.names()):
+            raise AssertionError(f"{name} reads what is still")
+        if kind == "when":
+            return self.state(told[2])
+        value = came_to(told[2], {each: self.state(each)[1] for each in row.names()})
+        return ("fault", value[0]) if isinstance(value, list) else ("value", value)
+
+    def latest(self, name, value):
+        had = [row[name] for row in self.told if name in row]
+        return had[-1] if had else value

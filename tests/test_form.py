@@ -39,6 +39,13 @@ FUNCTIONS = {
         "reads_of": ["node", "clocks"], "reached_from": ["node", "clocks", "name"],
         "way_between": ["node", "clocks", "one", "other"], "is_way": ["node", "clocks", "one", "other", "thing"],
     },
+    "orders": {
+        "order_of": ["node", "clocks"], "ranks_of": ["node", "clocks"], "is_order": ["node", "clocks", "thing"],
+        "is_ring": ["node", "clocks", "thing"], "need_sound": ["node"],
+    },
+    "asking": {"run_by_asking": ["node", "rows"]},
+    "running": {"is_run": ["node", "rows", "thing"]},
+    "loops": {"run_loop": ["node", "rows"]},
 }
 CLASSES = {
     "terms": {
@@ -59,6 +66,18 @@ CLASSES = {
     "programs": {
         "Program": {
             "__init__": ["nodes"], "names": [], "named": ["name"], "calls_in": ["name"], "below": ["name"], "told": [],
+        },
+    },
+    "asking": {
+        "Asker": {
+            "__init__": ["node"], "give": ["row"], "beats": [], "value": ["name", "beat"], "row": ["beat"],
+            "outs_at": ["beat"], "stream": ["name"], "faults": [],
+        },
+    },
+    "loops": {
+        "Loop": {
+            "__init__": ["node"], "rows": [], "cells": [], "step": ["row"], "beats": [], "faults": [],
+            "stood_at": ["cells"],
         },
     },
 }

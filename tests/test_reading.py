@@ -189,9 +189,9 @@ class IsWayTest(BeatCase):
             {"m": 1, "r": 1, "w": 1, "b": 1}, "mrwb",
             node, clocks, ["k", "y"], [way], (way,),
         ]:
-            self.assertIs(is_way(node, clocks, "m", "b", thing), False, thing)
+            self.assertIs(is_way(node, clocks, "m", "b", thing), False)
         for thing in [*no_texts(), *wild_texts(), [], ["a"], ["none"]]:
-            self.assertIs(is_way(node, clocks, "m", "b", thing), False, thing)
+            self.assertIs(is_way(node, clocks, "m", "b", thing), False)
             self.assertIs(is_way(node, clocks, "m", "b", ["m", thing, "w", "b"]), False)
             self.assertIs(is_way(node, clocks, "m", "m", thing), False)
 

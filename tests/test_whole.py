@@ -1,0 +1,174 @@
+"""What the document promises of the whole: see its point 8."""
+
+import random
+import unittest
+
+from beatrows.asking import Asker, run_by_asking
+from beatrows.clockpapers import is_clash, is_clock_paper
+from beatrows.clocks import clock_paper, clocks_of, ticks
+from beatrows.errors import NoClock, NoFit, Ring
+from beatrows.loops import Loop, run_loop
+from beatrows.nodes import Node
+from beatrows.nodetext import read_node, show_node
+from beatrows.orders import is_order, is_ring, need_sound
+from beatrows.programs import Program, program_of, read_program, show_program
+from beatrows.reading import reads_of
+from beatrows.running import is_run
+from beatrows.writing import written_out
+
+from cases import BeatCase, Played, some_node, some_rows, sound_node
+
+# The called nodes keep cells, and one of them tells a name on a clock of its own.
+PROGRAM = """node count in a r out n
+p = before 0 n
+n = ( r ? 0 : ( p + a ) )
+node odd in a out o y
+o = ( ( a mod 2 ) = 1 )
+y = a when o
+node top in a r out s t
+n = call count a r
+o y = call odd n
+u = call count y f
+f = false like y
+s = hold -1 u
+v z = call odd s
+t = hold 0 z"""
+
+
+class SoundTest(BeatCase):
+    def test_clocks_orders_and_refusals_are_told_with_papers(self):
+        chance = random.Random(8)
+        seen = {"sound": 0, "fit": 0, "clock": 0, "ring": 0}
+        for _ in range(800):
+            node = some_node(chance, chance.randint(1, 7))
+            try:
+                clocks, order = need_sound(node)
+                self.assertIs(is_clock_paper(node, clock_paper(node)), True)
+                self.assertIs(is_order(node, clocks, order), True)
+                seen["sound"] += 1
+            except NoFit as refusal:
+                self.assertIs(is_clash(node, refusal.paper), True)
+                seen["fit"] += 1
+            except NoClock as refusal:
+                self.assertIn(refusal.name, node.names())
+                seen["clock"] += 1
+            except Ring as refusal:
+                self.assertIs(is_ring(node, clocks_of(node), refusal.paper), True)
+                seen["ring"] += 1
+        self.assertGreater(min(seen.values()), 2, seen)
+
+
+class RunTest(BeatCase):
+    def test_asking_and_the_loop_tell_the_same(self):
+        chance = random.Random(9)
+        words, over, beats, levels = set(), 0, 0, 0
+        for _ in range(250):
+            node, truths = sound_node(chance, chance.randint(3, 24))
+            rows = some_rows(chance, node, truths, chance.randint(0, 20))
+            played = Played(node, rows)
+            told = run_by_asking(node, rows)
+            self.assert_exact(told, (played.told, played.faults))
+            self.assert_exact(run_loop(node, rows), told)
+            self.assertIs(is_run(node, rows, told), True)
+            words.update(word for _, word in (played.faults or (0, []))[1])
+            over += played.faults is not None
+            beats += len(played.told)
+            levels = max(levels, max(len(clock) for clock in played.clocks.values()))
+        self.assertEqual(words, {"kind", "nought", "great"})
+        self.assertGreater(over, 30)
+        self.assertGreater(beats, 500)
+        self.assertGreater(levels, 2)
+
+    def test_names_have_values_at_just_the_beats_of_their_clocks(self):
+        chance = random.Random(10)
+        for _ in range(80):
+            node, truths = sound_node(chance, chance.randint(3, 20))
+            clocks, told = clocks_of(node), run_by_asking(node, some_rows(chance, node, truths, 15))[0]
+            for row in told:
+                for name, clock in clocks.items():
+                    self.assertIs(name in row, ticks(clock, row))
+
+    def test_no_value_is_read_at_a_beat_at_which_it_is_still(self):
+        chance = random.Random(11)
+        for _ in range(80):
+            node, truths = sound_node(chance, chance.randint(3, 20))
+            reads = reads_of(node, clocks_of(node))
+            for row in run_by_asking(node, some_rows(chance, node, truths, 15))[0]:
+                for name in row:
+                    teller = node.teller(name)
+                    if teller is not None and teller.told()[0] in ("plain", "when"):
+                        self.assertEqual([other for other in reads[name] if other not in row], [])
+
+    def test_values_hang_on_the_rows_up_to_their_beat_alone(self):
+        chance = random.Random(12)
+        for _ in range(60):
+            node, truths = sound_node(chance, chance.randint(3, 15))
+            rows = some_rows(chance, node, truths, 12)
+            told = run_by_asking(node, rows)[0]
+            for many in (1, 4, 9):
+                other = rows[:many] + some_rows(chance, node, truths, 3)
+                self.assert_exact(run_by_asking(node, other)[0][:many], told[:many])
+
+    def test_the_order_of_rows_changes_nothing(self):
+        chance = random.Random(13)
+        for _ in range(80):
+            node, truths = sound_node(chance, chance.randint(3, 15))
+            name, inputs, outs, rows = node.told()
+            other = Node(name, inputs, outs, chance.sample(rows, len(rows)))
+            given = some_rows(chance, node, truths, 10)
+            for run in (run_by_asking, run_loop):
+                self.assertEqual(run(other, given), run(node, given))
+            self.assertEqual(Loop(other).cells(), Loop(node).cells())
+            self.assertIs(is_run(other, given, run_by_asking(node, given)), True)
+
+    def test_what_a_loop_tells_hangs_on_its_cells_and_what_follows(self):
+        chance = random.Random(14)
+        for _ in range(80):
+            node, truths = sound_node(chance, chance.randint(3, 15))
+            one, other = Loop(node), Loop(node)
+            for loop, many in ((one, 3), (other, 6)):
+                for row in some_rows(chance, node, truths, many):
+                    if loop.faults() is None:
+                        loop.step(row)
+            stood = other.stood_at(one.cells())
+            for row in some_rows(chance, node, truths, 8):
+                if one.faults() is None and stood.faults() is None:
+                    self.assert_exact(stood.step(row), one.step(row))
+                    self.assert_exact(stood.cells(), one.cells())
+
+
+class ProgramTest(BeatCase):
+    def test_written_and_read_back(self):
+        chance = random.Random(15)
+        for _ in range(60):
+            node, _ = sound_node(chance, chance.randint(1, 20))
+            self.assert_exact(read_node(show_node(node)).told(), node.told())
+            program = Program([node])
+            for other in (read_program(show_program(program)), program_of(program.told())):
+                self.assert_exact(other.told(), program.told())
+
+    def test_a_node_written_out_runs_as_its_parts_do_by_hand(self):
+        program = read_program(PROGRAM)
+        self.assert_exact(read_program(show_program(program)).told(), program.told())
+        out = written_out(program, "top")
+        rows = [{"a": a, "r": r} for a, r in [(2, False), (3, False), (2, False), (1, True), (5, False), (1, False)]]
+        told, faults = run_by_asking(out, rows)
+        self.assertIsNone(faults)
+        self.assert_exact([row["n"] for row in told], [2, 5, 7, 0, 5, 6])
+        self.assert_exact([row.get("y") for row in told], [None, 5, 7, None, 5, None])
+        self.assert_exact([row.get("u") for row in told], [None, 5, 12, None, 17, None])
+        self.assert_exact([row["s"] for row in told], [-1, 5, 12, 12, 17, 17])
+        self.assert_exact([row["t"] for row in told], [-1, 5, 5, 5, 17, 17])
+        self.assert_exact(clocks_of(out)["u.p"], ("o",))
+        self.assert_exact(run_loop(out, rows), (told, None))
+        self.assertEqual(list(Loop(out).cells()), ["n.p", "u.p", "s", "t"])
+
+    def test_equal_answers_of_what_was_made_alike(self):
+        one, other = [Asker(written_out(read_program(PROGRAM), "top")) for _ in range(2)]
+        for asker in (one, other):
+            self.assertIs(asker.give({"a": 3, "r": False}), True)
+        self.assert_exact(one.row(0), other.row(0))
+
+
+if __name__ == "__main__":
+    unittest.main()
