@@ -9,25 +9,25 @@ class Equation:
     """Any equation; only objects of the seven classes below are made, and these tell all by themselves."""
 
     def told(self):
-        raise NotImplementedError
+        raise NotImplementedError("told by the classes below")
 
     def tells(self):
-        raise NotImplementedError
+        raise NotImplementedError("told by the classes below")
 
     def names(self):
-        raise NotImplementedError
+        raise NotImplementedError("told by the classes below")
 
     def term(self):
-        raise NotImplementedError
+        raise NotImplementedError("told by the classes below")
 
     def is_call(self):
-        raise NotImplementedError
+        raise NotImplementedError("told by the classes below")
 
     def renamed(self, names):
-        raise NotImplementedError
+        raise NotImplementedError("told by the classes below")
 
     def words(self):
-        raise NotImplementedError
+        raise NotImplementedError("told by the classes below")
 
 
 class Plain(Equation):

@@ -11,22 +11,22 @@ class Term:
     """Any term; only objects of the five classes below are made, and these tell all by themselves."""
 
     def names(self):
-        raise NotImplementedError
+        raise NotImplementedError("told by the classes below")
 
     def levels(self):
-        raise NotImplementedError
+        raise NotImplementedError("told by the classes below")
 
     def reckoned_by(self, values):
-        raise NotImplementedError
+        raise NotImplementedError("told by the classes below")
 
     def renamed(self, names):
-        raise NotImplementedError
+        raise NotImplementedError("told by the classes below")
 
     def told(self):
-        raise NotImplementedError
+        raise NotImplementedError("told by the classes below")
 
     def words(self):
-        raise NotImplementedError
+        raise NotImplementedError("told by the classes below")
 
 
 class Name(Term):

@@ -83,7 +83,7 @@ CLASSES = {
 }
 BUILTINS = (
     "len range enumerate zip min max sum abs sorted reversed int str bool bytes list tuple dict set frozenset "
-    "isinstance ord repr any all divmod pow ValueError"
+    "isinstance ord repr any all divmod pow ValueError NotImplementedError"
 ).split()
 
 
