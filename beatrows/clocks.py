@@ -48,14 +48,20 @@ def clock_beside(node, one, other):
 
 
 def links_of(node):
-    """The links that the rows of a node give, row by row."""
+    """The links that the rows of a node without calls give, row by row."""
     links = []
     for row in node.rows():
-        told = row.told()
-        if told[0] != "same":
-            labels = _labels_of(told)
-            links.extend([(told[1], name, labels) for name in row.names()])
+        links.extend(links_of_row(row))
     return links
+
+
+def links_of_row(row):
+    """The links that a row gives that is no call."""
+    told = row.told()
+    if told[0] == "same":
+        return []
+    labels = _labels_of(told)
+    return [(told[1], name, labels) for name in row.names()]
 
 
 def groups_of(node):

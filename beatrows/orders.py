@@ -21,7 +21,22 @@ def ranks_of(node, clocks):
 
 def is_order(node, clocks, thing):
     """Whether any thing is an order of the node."""
-    reads = reads_of(node, clocks)
+    return is_order_by_reads(reads_of(node, clocks), thing)
+
+
+def is_ring(node, clocks, thing):
+    """Whether any thing is a ring of the node."""
+    return is_ring_by_reads(reads_of(node, clocks), thing)
+
+
+def need_sound(node):
+    """The clocks and an order of a node; refused as clocks_of, then with Ring."""
+    clocks = clocks_of(node)
+    return (clocks, order_of(node, clocks))
+
+
+def is_order_by_reads(reads, thing):
+    """Whether any thing is an order of the names of a dict from each one to those that it reads."""
     if not isinstance(thing, list) or len(thing) != len(reads):
         return False
     ahead = {}
@@ -34,22 +49,15 @@ def is_order(node, clocks, thing):
     return True
 
 
-def is_ring(node, clocks, thing):
-    """Whether any thing is a ring of the node."""
-    reads = reads_of(node, clocks)
+def is_ring_by_reads(reads, thing):
+    """Whether any thing is a ring of them."""
     if not isinstance(thing, list) or not is_walk(reads, thing):
         return False
     return thing[0] in reads[thing[-1]]
 
 
-def need_sound(node):
-    """The clocks and an order of a node; refused as clocks_of, then with Ring."""
-    clocks = clocks_of(node)
-    return (clocks, order_of(node, clocks))
-
-
 def order_by_reads(reads):
-    """Likewise the names of a dict from each one to those that it reads; refused with Ring."""
+    """An order of them; refused with Ring."""
     ahead = {}
     waiting = list(reads)
     while waiting:

@@ -3,20 +3,31 @@
 
 def reads_of(node, clocks):
     """The names that each name reads in one beat, all in the node's order."""
-    names = node.names()
+    return reads_with({name: read_by(node.teller(name)) for name in node.names()}, clocks)
+
+
+def reads_with(mentioned, clocks):
+    """Likewise by what the row of each name reads; each name reads the last name of its clock, too."""
     reads = {}
-    for name in names:
-        found = {other: True for other in _read_by(node.teller(name))}
+    for name in mentioned:
+        found = {other: True for other in mentioned[name]}
         for label in clocks[name][-1:]:
             found[label] = True
-        reads[name] = [other for other in names if other in found]
+        reads[name] = [other for other in mentioned if other in found]
     return reads
+
+
+def read_by(row):
+    """The names that a row that is no call reads in the beat itself; no row, of an input, reads none."""
+    if row is None or row.told()[0] in ("before", "like"):
+        return []
+    return row.names()
 
 
 def reached_from(node, clocks, name):
     """The names to which a way leads from a name, itself too; of any thing, refused with Unknown."""
     node.teller(name)
-    came = _ways_from(reads_of(node, clocks), name)
+    came = ways_from(reads_of(node, clocks), name)
     return [each for each in node.names() if each in came]
 
 
@@ -24,7 +35,7 @@ def way_between(node, clocks, one, other):
     """A way with as few names as can be, None where there is none; of any things, refused with Unknown."""
     node.teller(one)
     node.teller(other)
-    came = _ways_from(reads_of(node, clocks), one)
+    came = ways_from(reads_of(node, clocks), one)
     if other not in came:
         return None
     way = [other]
@@ -52,7 +63,7 @@ def is_walk(reads, things):
     return len(things) > 0
 
 
-def _ways_from(reads, name):
+def ways_from(reads, name):
     """For each name that is reached the one ahead of it on a shortest way; for the first one None."""
     came = {name: None}
     waiting = [name]
@@ -65,10 +76,3 @@ def _ways_from(reads, name):
                 waiting.append(other)
         at += 1
     return came
-
-
-def _read_by(row):
-    """The names that a row reads in the beat itself; no row, of an input, reads none."""
-    if row is None or row.told()[0] in ("before", "like"):
-        return []
-    return row.names()

@@ -1,7 +1,7 @@
 """The checker of runs: whether a thing is what a node comes to, beat by beat."""
 
 from beatrows.asking import Asker, need_rows
-from beatrows.words import is_whole
+from beatrows.words import are_alike, is_whole
 
 
 def is_run(node, rows, thing):
@@ -26,7 +26,7 @@ def _is_row(thing, row):
     if not isinstance(thing, dict) or len(thing) != len(row):
         return False
     for name in row:
-        if name not in thing or thing[name] != row[name] or is_whole(thing[name]) != is_whole(row[name]):
+        if name not in thing or not are_alike(thing[name], row[name]):
             return False
     return True
 

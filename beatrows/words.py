@@ -43,6 +43,11 @@ def is_value(thing):
     return isinstance(thing, bool) or is_within(thing, -_GREATEST, _GREATEST)
 
 
+def are_alike(one, other):
+    """Whether any thing is the same as a value, or as a word; a truth is no number."""
+    return is_whole(one) == is_whole(other) and one == other
+
+
 def own_words():
     """The words that are no names, as a new list."""
     return list(_OWN_WORDS)

@@ -5,11 +5,13 @@ import unittest
 
 from beatrows.clocks import clocks_of
 from beatrows.equations import equation_of
-from beatrows.errors import BeatError, NoName, NoText
+from beatrows.errors import BeatError, Hidden, NoClock, NoFit, NoName, NoText, Ring
 from beatrows.nodes import Node
 from beatrows.orders import need_sound
 from beatrows.programs import Program
+from beatrows.telling import summary_of
 from beatrows.terms import Name, Not, Pick, Two, Value
+from beatrows.writing import how_many
 
 
 class BeatCase(unittest.TestCase):
@@ -166,6 +168,85 @@ def sound_node(chance, many):
         return sound_node(chance, many)
 
 
+def sound_program(chance, nodes, many, most=200):
+    """A program of sound nodes that hide nothing and call one another; by node and name whether it is a truth."""
+    made, known = [], {}
+    while len(made) < nodes:
+        try:
+            node, truths = _some_caller(chance, "defghijk"[len(made)], known, chance.randint(1, many))
+            program = Program([*made, node])
+            known[node.name] = (node, truths, summary_of(program, node.name))
+        except BeatError:
+            continue
+        if how_many(program, node.name) <= most:
+            made.append(node)
+        else:
+            del known[node.name]
+    return program, {name: truths for name, (_, truths, _) in known.items()}
+
+
+def _some_caller(chance, name, known, many):
+    """A node of rows of all kinds that calls the known ones, sound as a rule."""
+    names = chance.sample([f"{one}{other}" for one in "lmnopqrstuvwxyz" for other in "abcdefghij"], 150)
+    inputs = [names.pop() for _ in range(chance.randint(1, 4))]
+    truths = {each: at % 2 == 0 for at, each in enumerate(chance.sample(inputs, len(inputs)))}
+    clocks = {each: () for each in inputs}
+    rows, late = [], []
+    while len(rows) + len(late) < many:
+        clock = chance.choice(list(clocks.values()))
+        near = [each for each in clocks if clocks[each] == clock]
+        kind = chance.choice(["plain", "plain", "when", "hold", "before", "like", "call", "call", "call", "same"])
+        if kind == "same":
+            rows.append(("same", tuple(chance.choices(near, k=chance.randint(2, 3)))))
+        elif kind == "call" and known:
+            rows.append(_some_call(chance, *known[chance.choice(list(known))], near, truths, clocks, names))
+        elif kind == "before":
+            # It may be fed back, by names that are told behind it.
+            late.append(names.pop())
+            truths[late[-1]], clocks[late[-1]] = truths[chance.choice(near)], clock
+        elif kind != "call" and (kind != "hold" or clock):
+            rows.append(_some_row_near(chance, kind, names.pop(), near, truths, clocks))
+    for own in late:
+        fitting = [each for each in clocks if clocks[each] == clocks[own] and truths[each] == truths[own]]
+        rows.append(("before", own, True if truths[own] else chance.randint(0, 3), chance.choice(fitting)))
+    chance.shuffle(rows)
+    told = [each for each in clocks if each not in inputs]
+    outs = chance.sample(told, min(len(told), chance.randint(1, 3)))
+    outs += [label for out in outs for label in clocks[out] if label not in inputs]
+    return Node(name, inputs, list(dict.fromkeys(outs))[:6], [row for row in rows if _mentions(row)]), truths
+
+
+def _some_row_near(chance, kind, name, near, truths, clocks):
+    """A row of a new name by names that are on one clock."""
+    one, clock = chance.choice(near), clocks[near[0]]
+    truths[name], clocks[name] = truths[one], clock
+    if kind == "plain":
+        truths[name] = chance.random() < 0.5
+        return ("plain", name, _fitting_term(chance, near, truths, truths[name], 2))
+    if kind == "when":
+        other = chance.choice([each for each in near if truths[each]] or near)
+        clocks[name] = (*clock, other)
+        return ("when", name, one, other)
+    if kind == "hold":
+        clocks[name] = clock[:-1]
+        return ("hold", name, truths[one] if chance.random() < 0.9 else 7, one)
+    return ("like", name, True if truths[one] else chance.randint(0, 3), one)
+
+
+def _some_call(chance, node, kinds, summary, near, truths, clocks, names):
+    """A call's row, of args that are on one clock."""
+    seen = {out: names.pop() for out in node.outs()}
+    # An own out may be an arg where it is on the args' clock and doesn't hang on this one.
+    own = {each: [seen[out] for out, labels, _, hangs in summary if not labels and each not in hangs]
+           for each in node.inputs()}
+    for each in node.inputs():
+        fitting = [one for one in near if truths[one] == kinds[each]] or near
+        seen[each] = chance.choice(own[each] if own[each] and chance.random() < 0.4 else fitting)
+    for out, labels, _, _ in summary:
+        truths[seen[out]], clocks[seen[out]] = kinds[out], (*clocks[near[0]], *[seen[label] for label in labels])
+    return ("call", tuple(seen[out] for out in node.outs()), node.name, tuple(seen[each] for each in node.inputs()))
+
+
 def _mentions(row):
     return row[0] != "plain" or equation_of(row).names()
 
@@ -288,3 +369,124 @@ class Played:
     def latest(self, name, value):
         had = [row[name] for row in self.told if name in row]
         return had[-1] if had else value
+
+
+class Fitted:
+    """What each node of a program tells of itself, worked out from the document's words alone.
+
+    A node whose nodes below are refused is in none of the dicts.
+    """
+
+    def __init__(self, program):
+        self.program = program
+        self.clocks, self.reads, self.summaries, self.refusals = {}, {}, {}, {}
+        for name in program.names():
+            if all(each in self.summaries for each in program.below(name)):
+                self.refusals[name] = self.refusal_of(program.named(name))
+
+    def refusal_of(self, node):
+        """The kind of the refusal and what stands in it (of NoFit the words that there are), None where it is sound."""
+        steps = self.steps(node, node.inputs())
+        found = {name: [clock for other, clock in steps if other == name] for name in node.names()}
+        rows = [row.told() for row in node.rows()]
+        words = {"two"} if any(len(clocks) > 1 for clocks in found.values()) else set()
+        if any(row[0] == "hold" and () in found[row[3]] for row in rows):
+            words.add("hold")
+        if words:
+            return (NoFit, words)
+        for name in node.names():
+            if not found[name]:
+                return (NoClock, name)
+        clocks = {name: one for name, (one,) in found.items()}
+        for row in rows:
+            if row[0] in ("same", "call") and len({clocks[name] for name in row[-1]}) > 1:
+                return (NoFit, {"same"})
+        self.clocks[node.name] = clocks
+        reads = self.reads[node.name] = {name: self.read_by(node, clocks, name) for name in node.names()}
+        reached = {name: self.reached(reads, name) for name in reads}
+        if any(name in reached[other] for name in reads for other in reads[name]):
+            return (Ring, {name for name in reads if any(name in reached[other] for other in reads[name])})
+        for out in node.outs():
+            for label in clocks[out]:
+                if label not in node.inputs() + node.outs():
+                    return (Hidden, (out, label))
+        self.summaries[node.name] = tuple(
+            (out, clocks[out], tuple(one for one in node.inputs() if (out, clocks[out]) in self.steps(node, [one])),
+             tuple(one for one in node.inputs() if one in reached[out]))
+            for out in node.outs()
+        )
+        return None
+
+    def steps(self, node, firsts):
+        """Each (name, clock) that follows from these inputs; long clocks are left out."""
+        found = [(name, ()) for name in firsts]
+        for name, clock in found:
+            for row in node.rows():
+                for step in self.led(row, name, clock):
+                    if step not in found and len(step[1]) < 15:
+                        found.append(step)
+        return found
+
+    def led(self, row, name, clock):
+        told = row.told()
+        if told[0] == "same" or name not in row.names():
+            return []
+        if told[0] == "when":
+            return [(told[1], (*clock, told[3]))]
+        if told[0] == "hold":
+            return [(told[1], clock[:-1])] if clock else []
+        if told[0] != "call":
+            return [(told[1], clock)]
+        seen = self.seen(told)
+        return [(seen[out], (*clock, *[seen[label] for label in labels]))
+                for out, labels, follows, _ in self.summaries[told[2]] if name in [seen[each] for each in follows]]
+
+    def seen(self, told):
+        called = self.program.named(told[2])
+        return dict(zip(called.inputs() + called.outs(), told[3] + told[1]))
+
+    def read_by(self, node, clocks, name):
+        row, found = node.teller(name), set(clocks[name][-1:])
+        if row is not None and row.is_call():
+            seen = self.seen(row.told())
+            for out, _, _, hangs in self.summaries[row.told()[2]]:
+                if seen[out] == name:
+                    found |= {seen[each] for each in hangs}
+        elif row is not None and row.told()[0] in ("plain", "when", "hold"):
+            found |= set(row.names())
+        return [each for each in node.names() if each in found]
+
+    def reached(self, reads, name):
+        found = [name]
+        for each in found:
+            found += [other for other in reads[each] if other not in found]
+        return found
+
+
+def spoilt_program(chance, program):
+    """The program with something in one of its nodes put otherwise."""
+    while True:
+        nodes = [list(told) for told in program.told()]
+        node = chance.choice(nodes)
+        names = Node(*node).names()
+        rows = list(node[3])
+        at = chance.randrange(len(rows))
+        deed = chance.choice(["mention", "mention", "mention", "same", "outs", "when", "hold", "self"])
+        row = equation_of(rows[at])
+        if deed == "mention":
+            changed = {chance.choice(row.names()): chance.choice(names)}
+            rows[at] = row.renamed({**{name: name for name in names}, **changed}).told()
+        elif deed == "same":
+            rows.append(("same", tuple(chance.choices(names, k=2))))
+        elif deed == "outs":
+            node[2] = tuple(chance.sample(names, len(node[2])))
+        elif deed == "self":
+            rows.append(("plain", "zzz", ("two", "+", ("name", "zzz"), ("name", chance.choice(names)))))
+        else:
+            rows.append(("when", "zzz", *chance.choices(names, k=2)) if deed == "when" else
+                        ("hold", "zzz", 0, chance.choice(names)))
+        node[3] = tuple(rows)
+        try:
+            return Program([Node(*told) for told in nodes])
+        except BeatError:
+            pass

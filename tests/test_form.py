@@ -46,6 +46,13 @@ FUNCTIONS = {
     "asking": {"run_by_asking": ["node", "rows"]},
     "running": {"is_run": ["node", "rows", "thing"]},
     "loops": {"run_loop": ["node", "rows"]},
+    "apart": {"goes_apart": ["node", "one", "other", "rows"]},
+    "looprows": {"is_loop": ["node", "thing"], "show_loop": ["loop"]},
+    "fitting": {
+        **{asked: ["program", "name"] for asked in ("clocks_by", "reads_by", "order_by", "sound_by")},
+        **{asked: ["program", "name", "thing"] for asked in ("is_clash_by", "is_order_by", "is_ring_by")},
+    },
+    "telling": {"summary_of": ["program", "name"], "cells_in": ["program", "name"]},
 }
 CLASSES = {
     "terms": {

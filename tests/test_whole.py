@@ -6,17 +6,19 @@ import unittest
 from beatrows.asking import Asker, run_by_asking
 from beatrows.clockpapers import is_clash, is_clock_paper
 from beatrows.clocks import clock_paper, clocks_of, ticks
-from beatrows.errors import NoClock, NoFit, Ring
+from beatrows.errors import BeatError, Hidden, NoClock, NoFit, Ring
+from beatrows.fitting import reads_by, sound_by
 from beatrows.loops import Loop, run_loop
 from beatrows.nodes import Node
 from beatrows.nodetext import read_node, show_node
 from beatrows.orders import is_order, is_ring, need_sound
 from beatrows.programs import Program, program_of, read_program, show_program
-from beatrows.reading import reads_of
+from beatrows.reading import reached_from, reads_of
 from beatrows.running import is_run
+from beatrows.telling import cells_in, summary_of
 from beatrows.writing import written_out
 
-from cases import BeatCase, Played, some_node, some_rows, sound_node
+from cases import BeatCase, Played, some_node, some_rows, sound_node, sound_program, spoilt_program
 
 # The called nodes keep cells, and one of them tells a name on a clock of its own.
 PROGRAM = """node count in a r out n
@@ -56,6 +58,92 @@ class SoundTest(BeatCase):
                 self.assertIs(is_ring(node, clocks_of(node), refusal.paper), True)
                 seen["ring"] += 1
         self.assertGreater(min(seen.values()), 2, seen)
+
+
+class SufficesTest(BeatCase):
+    """What a node tells of itself suffices, wherever it is called: see point 97."""
+
+    def fitted(self, chance, many):
+        """Programs whose last node calls others that are sound and hide nothing, mostly sound itself."""
+        while many:
+            program, _ = sound_program(chance, chance.randint(2, 4), 9)
+            name = program.names()[-1]
+            other = spoilt_program(chance, program) if chance.random() < 0.6 else program
+            if program.below(name) and other.told()[:-1] == program.told()[:-1]:
+                many -= 1
+                yield other, name
+
+    def test_clocks_and_ways_of_own_names(self):
+        ways = 0
+        for program, name in self.fitted(random.Random(97), 250):
+            try:
+                clocks, order = sound_by(program, name)
+            except BeatError:
+                continue
+            node, out = program.named(name), written_out(program, name)
+            wanted = need_sound(out)[0]
+            self.assert_exact(clocks, {own: wanted[own] for own in node.names()})
+            reads = reads_by(program, name)
+            called = [told for row in node.rows() if row.is_call() for told in row.tells()]
+            for own in node.names():
+                here = [own]
+                for each in here:
+                    here += [other for other in reads[each] if other not in here]
+                there = reached_from(out, wanted, own)
+                self.assertEqual({each for each in here if each not in called},
+                                 {each for each in there if each in node.names() and each not in called} | (
+                                     {own} - set(called)))
+                ways += len(here) - 1
+        self.assertGreater(ways, 1000)
+
+    def test_what_is_not_sound_is_so_written_out(self):
+        seen = {"NoFit": 0, "NoClock": 0, "Ring": 0, "sound": 0}
+        for program, name in self.fitted(random.Random(98), 500):
+            out = written_out(program, name)
+            try:
+                sound_by(program, name)
+                need_sound(out)
+                seen["sound"] += 1
+            except BeatError as refusal:
+                found = self.refusal(type(refusal), sound_by, program, name)
+                if isinstance(found, Ring):
+                    paper = self.refusal(Ring, need_sound, out).paper
+                    self.assertIs(is_ring(out, clocks_of(out), paper), True)
+                else:
+                    with self.assertRaises((NoFit, NoClock)):
+                        need_sound(out)
+                seen[type(found).__name__] += 1
+        self.assertGreater(min(seen.values()), 3, seen)
+
+    def test_a_loop_has_as_many_cells_as_the_node_tells(self):
+        for program, name in self.fitted(random.Random(99), 60):
+            try:
+                loop = Loop(written_out(program, name))
+            except BeatError:
+                continue
+            self.assertEqual(len(loop.cells()), cells_in(program, name))
+
+    def test_the_order_of_rows_and_of_nodes_changes_nothing(self):
+        chance = random.Random(100)
+        for program, name in self.fitted(chance, 150):
+            nodes = []
+            for node in [program.named(each) for each in program.names()]:
+                rows = [row.told() for row in node.rows()]
+                nodes.append(Node(node.name, node.inputs(), node.outs(), chance.sample(rows, len(rows))))
+            other = Program(nodes)
+            try:
+                clocks, _ = sound_by(program, name)
+            except BeatError as refusal:
+                self.refusal(type(refusal), sound_by, other, name)
+                continue
+            self.assertEqual(sound_by(other, name)[0], clocks)
+            self.assertEqual({own: set(reads) for own, reads in reads_by(other, name).items()},
+                             {own: set(reads) for own, reads in reads_by(program, name).items()})
+            try:
+                self.assert_exact(summary_of(other, name), summary_of(program, name))
+            except Hidden:
+                self.refusal(Hidden, summary_of, other, name)
+            self.assertEqual(cells_in(other, name), cells_in(program, name))
 
 
 class RunTest(BeatCase):
