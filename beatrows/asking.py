@@ -123,17 +123,24 @@ def states_by(plan, given, kept):
     """
     states = {}
     for name, truth, row, reads in plan:
-        if row is None:
-            states[name] = ("value", given[name])
-        elif truth is not None and _is_gone(states[truth]):
-            states[name] = ("lost", None)
-        elif truth is not None and states[truth][1] is not True:
-            states[name] = ("still", None)
-        elif any([_is_gone(states[other]) for other in reads]):
-            states[name] = ("lost", None)
-        else:
-            states[name] = _state_by_row(row, states, kept)
+        states[name] = ("value", given[name]) if row is None else state_by(truth, row, reads, states, kept)
     return states
+
+
+def state_by(truth, row, reads, states, kept):
+    """Likewise what one name is that a row tells, by what the names are that it reads."""
+    if truth is not None and is_gone(states[truth]):
+        return ("lost", None)
+    if truth is not None and states[truth][1] is not True:
+        return ("still", None)
+    if any([is_gone(states[other]) for other in reads]):
+        return ("lost", None)
+    return _state_by_row(row, states, kept)
+
+
+def is_gone(state):
+    """Whether a name is lost or faults."""
+    return state[0] in ("lost", "fault")
 
 
 def values_among(node, states):
@@ -144,10 +151,6 @@ def values_among(node, states):
 def faults_among(states):
     """The names that fault, each with its word, in the order of texts."""
     return sorted([(name, states[name][1]) for name in states if states[name][0] == "fault"])
-
-
-def _is_gone(state):
-    return state[0] in ("lost", "fault")
 
 
 def _state_by_row(row, states, kept):

@@ -11,7 +11,7 @@ class Loop:
     def __init__(self, node):
         self._plan = plan_of(node)
         self._node = node
-        self._kept = _kept_of(node)
+        self._kept = kept_of(node)
         self._cells = {name: value for name, (value, _) in self._kept.items()}
         self._beats = 0
         self._faults = None
@@ -76,7 +76,7 @@ def run_loop(node, rows):
     return (found, loop.faults())
 
 
-def _kept_of(node):
+def kept_of(node):
     """For each name that a before or a hold tells the value that its cell has at first, and the name mentioned."""
     kept = {}
     for row in node.rows():

@@ -9,6 +9,14 @@ from beatrows.orders import order_by_reads
 from beatrows.reading import read_by, reads_with, ways_from
 
 
+def known_with(program, name):
+    """What is known of a node and of those below it; of any thing, refused as known_below, then as the node."""
+    known = known_below(program, name)
+    node = program.named(name)
+    known[name] = (node.inputs(), summary_within(node, known))
+    return known
+
+
 def known_below(program, name):
     """What is known of the nodes below a node; of any thing, refused with Unknown, then as the first refused one."""
     known = {}

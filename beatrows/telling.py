@@ -1,6 +1,6 @@
 """What a node of a program tells of itself: a summary for each out, and how many cells it has."""
 
-from beatrows.summaries import known_below, summary_within
+from beatrows.summaries import known_with
 
 
 def summary_of(program, name):
@@ -9,8 +9,7 @@ def summary_of(program, name):
     Of any thing; refused as the nodes below, then as the node is for its
     clocks, for a ring, and with Hidden.
     """
-    known = known_below(program, name)
-    return summary_within(program.named(name), known)
+    return known_with(program, name)[name][1]
 
 
 def cells_in(program, name):
