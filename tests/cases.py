@@ -320,16 +320,32 @@ def came_to(told, values):
     return value if abs(value) <= 10 ** 9 else ["great"]
 
 
+def other_names(chance, program):
+    """By node other names for some of its names: exchanged with one another, or new."""
+    names = {}
+    for node in [program.named(name) for name in program.names()]:
+        some = chance.sample(node.names(), chance.randint(0, len(node.names())))
+        new = [f"{name}zz" if chance.random() < 0.4 else name for name in chance.sample(some, len(some))]
+        if chance.random() < 0.8:
+            names[node.name] = dict(zip(some, new))
+    return names
+
+
 class Played:
-    """A run of a sound node, worked out name by name from the document's words alone."""
+    """A run of a sound node, worked out name by name from the document's words alone.
+
+    As of a part: an input of a row may be None, which is lost; a row may be
+    False or None, where the clock of the inputs is still or can't be told.
+    """
 
     def __init__(self, node, rows):
         self.node, self.rows, self.clocks = node, rows, clocks_of(node)
-        self.told, self.faults, self.lost = [], None, []
+        self.told, self.faults, self.lost, self.states = [], None, [], []
         while self.faults is None and len(self.told) < len(rows):
             self.known = {}
             states = {name: self.state(name) for name in node.names()}
             faults = sorted((name, value) for name, (word, value) in states.items() if word == "fault")
+            self.states.append(states)
             if faults:
                 self.faults = (len(self.told), faults)
                 self.lost = [name for name, (word, _) in states.items() if word == "lost"]
@@ -342,13 +358,15 @@ class Played:
         return self.known[name]
 
     def found(self, name):
-        clock, row = self.clocks[name], self.node.teller(name)
+        clock, row, given = self.clocks[name], self.node.teller(name), self.rows[len(self.told)]
+        if given is False or given is None:
+            return ("still" if given is False else "lost", None)
         if clock and self.state(clock[-1])[0] in ("lost", "fault"):
             return ("lost", None)
         if clock and (self.state(clock[-1])[0] == "still" or self.state(clock[-1])[1] is not True):
             return ("still", None)
         if row is None:
-            return ("value", self.rows[len(self.told)][name])
+            return ("lost", None) if given[name] is None else ("value", given[name])
         kind, told = row.told()[0], row.told()
         if kind == "like":
             return ("value", told[2])

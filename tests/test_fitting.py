@@ -251,7 +251,8 @@ class ClashTest(FittingCase):
 
     def setUp(self):
         self.made = program(
-            self.LOW, "node n in a c out u\nz = a when c\nu v = call low z c\nw = ( v + z )", "h = hold 0 a\ng = hold 1 u",
+            self.LOW, "node n in a c out u\nz = a when c\nu v = call low z c\nw = ( v + z )",
+            "h = hold 0 a\ng = hold 1 u",
         )
         self.steps = {
             "a": ("a", (), None), "c": ("c", (), None), "z": ("z", ("c",), "a"), "u": ("u", ("c",), "z"),
@@ -293,7 +294,8 @@ class ClashTest(FittingCase):
         for one, two in [("a", "h"), ("g", "u"), ("h", "h"), ("a", "a"), ("u", "a"), ("h", None)]:
             self.wrong("hold", [a, z, u], one, two)
         for one, two in [
-            ("z", "z"), ("c", "c"), ("a", "c"), ("a", "z"), ("u", "z"), ("z", "u"), ("z", "low"), ("v", "z"), ("z", "v"),
+            ("z", "z"), ("c", "c"), ("a", "c"), ("a", "z"), ("u", "z"), ("z", "u"), ("z", "low"), ("v", "z"),
+            ("z", "v"),
         ]:
             self.wrong("same", [a, z, c, u, v], one, two)
         self.wrong("same", [a, z], "z", "c")

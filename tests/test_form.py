@@ -53,6 +53,18 @@ FUNCTIONS = {
         **{asked: ["program", "name", "thing"] for asked in ("is_clash_by", "is_order_by", "is_ring_by")},
     },
     "telling": {"summary_of": ["program", "name"], "cells_in": ["program", "name"]},
+    "together": {
+        "run_by_parts": ["program", "name", "rows"], "deeds_of": ["program", "name"],
+        "are_deeds": ["program", "name", "thing"],
+    },
+    "renaming": {
+        "renamed": ["program", "nodes", "names"], "names_behind": ["program", "name", "names"],
+        "named_row": ["row", "names"], "named_clock": ["clock", "names"],
+    },
+    "turning": {
+        "turned": ["program", "name", "places"], "nodes_turned": ["program", "places"],
+        "same_but_order": ["one", "other"],
+    },
 }
 CLASSES = {
     "terms": {
@@ -87,6 +99,13 @@ CLASSES = {
             "stood_at": ["cells"],
         },
     },
+    "parts": {
+        "Part": {
+            "__init__": ["program", "name"], "begin": ["ticks"], "give": ["name", "value"], "lacking": ["out"],
+            "tell": ["out"], "close": [], "beats": [], "row": [], "cells": [],
+        },
+    },
+    "desk": {"Desk": {"__init__": [], "say": ["line"]}},
 }
 BUILTINS = (
     "len range enumerate zip min max sum abs sorted reversed int str bool bytes list tuple dict set frozenset "

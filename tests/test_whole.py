@@ -6,19 +6,22 @@ import unittest
 from beatrows.asking import Asker, run_by_asking
 from beatrows.clockpapers import is_clash, is_clock_paper
 from beatrows.clocks import clock_paper, clocks_of, ticks
-from beatrows.errors import BeatError, Hidden, NoClock, NoFit, Ring
+from beatrows.errors import BeatError, Hidden, NoCall, NoClock, NoFit, Ring
 from beatrows.fitting import reads_by, sound_by
 from beatrows.loops import Loop, run_loop
 from beatrows.nodes import Node
 from beatrows.nodetext import read_node, show_node
-from beatrows.orders import is_order, is_ring, need_sound
+from beatrows.orders import is_order, is_ring, need_sound, ranks_of
 from beatrows.programs import Program, program_of, read_program, show_program
 from beatrows.reading import reached_from, reads_of
+from beatrows.renaming import named_clock, named_row, names_behind, renamed
 from beatrows.running import is_run
 from beatrows.telling import cells_in, summary_of
+from beatrows.together import run_by_parts
+from beatrows.turning import nodes_turned, same_but_order, turned
 from beatrows.writing import written_out
 
-from cases import BeatCase, Played, some_node, some_rows, sound_node, sound_program, spoilt_program
+from cases import BeatCase, Played, other_names, some_node, some_rows, sound_node, sound_program, spoilt_program
 
 # The called nodes keep cells, and one of them tells a name on a clock of its own.
 PROGRAM = """node count in a r out n
@@ -223,6 +226,87 @@ class RunTest(BeatCase):
                 if one.faults() is None and stood.faults() is None:
                     self.assert_exact(stood.step(row), one.step(row))
                     self.assert_exact(stood.cells(), one.cells())
+
+
+class PartsTest(BeatCase):
+    def test_asking_the_loop_and_parts_tell_the_same_of_each_node(self):
+        chance = random.Random(16)
+        seen = {"over": 0, "none": 0}
+        for _ in range(60):
+            program, truths = sound_program(chance, chance.randint(2, 6), 12)
+            for name in program.names():
+                node = written_out(program, name)
+                rows = some_rows(chance, node, truths[name], 8)
+                told = run_by_asking(node, rows)
+                self.assert_exact(run_loop(node, rows), told)
+                self.assert_exact(run_by_parts(program, name, rows), told)
+                self.assertIs(is_run(node, rows, told), True)
+                seen["none" if told[1] is None else "over"] += 1
+        self.assertGreater(min(seen.values()), 20, seen)
+
+
+class OtherwiseTest(BeatCase):
+    """Put in another order and under other names all is answered alike: see point 116."""
+
+    def otherwise(self, chance, program):
+        """The program with its rows and nodes in another order, and then with other names, which are told, too."""
+        other = program
+        for name in program.names():
+            many = len(program.named(name).rows())
+            other = turned(other, name, chance.sample(range(many), many))
+        many = len(program.names())
+        for _ in range(4):
+            try:
+                other = nodes_turned(other, chance.sample(range(many), many))
+            except NoCall:
+                pass
+        self.assertIs(same_but_order(other, program), True)
+        names = other_names(chance, program)
+        nodes = dict(zip(program.names(), chance.sample(program.names(), many)))
+        return renamed(other, nodes, names), names, nodes
+
+    def test_clocks_ranks_values_and_faults(self):
+        chance = random.Random(116)
+        over = 0
+        for _ in range(80):
+            program, truths = sound_program(chance, chance.randint(1, 5), 12)
+            other, names, nodes = self.otherwise(chance, program)
+            for name in program.names():
+                behind = names_behind(program, name, names)
+                one, two = written_out(program, name), written_out(other, nodes[name])
+                self.assertEqual(two.inputs(), [behind[each] for each in one.inputs()])
+                self.assertEqual(two.outs(), [behind[each] for each in one.outs()])
+                clocks, found = clocks_of(one), clocks_of(two)
+                self.assertEqual(found, named_row({each: named_clock(clocks[each], behind) for each in clocks}, behind))
+                self.assertEqual(ranks_of(two, found), named_row(ranks_of(one, clocks), behind))
+                rows = some_rows(chance, one, truths[name], 6)
+                told, faults = run_by_asking(one, rows)
+                wanted = [named_row(row, behind) for row in told]
+                if faults is not None:
+                    faults = (faults[0], sorted((behind[each], word) for each, word in faults[1]))
+                    over += 1
+                given = [named_row(row, behind) for row in rows]
+                for run in (run_by_asking(two, given), run_loop(two, given), run_by_parts(other, nodes[name], given)):
+                    self.assertEqual(run, (wanted, faults))
+        self.assertGreater(over, 10)
+
+    def test_refused_just_where_it_was(self):
+        chance = random.Random(117)
+        seen = {"NoFit": 0, "NoClock": 0, "Ring": 0, "sound": 0}
+        for _ in range(250):
+            program = spoilt_program(chance, sound_program(chance, chance.randint(1, 4), 9)[0])
+            other, names, nodes = self.otherwise(chance, program)
+            for name in program.names():
+                one, two = written_out(program, name), written_out(other, nodes[name])
+                try:
+                    need_sound(one)
+                    need_sound(two)
+                    seen["sound"] += 1
+                except BeatError as refusal:
+                    self.refusal(type(refusal), need_sound, one)
+                    self.refusal(type(refusal), need_sound, two)
+                    seen[type(refusal).__name__] += 1
+        self.assertGreater(min(seen.values()), 3, seen)
 
 
 class ProgramTest(BeatCase):
