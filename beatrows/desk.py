@@ -57,7 +57,7 @@ class Desk:
 
     def _about_run(self, word, told):
         if word == "beat":
-            return self._run.beat(told)
+            return self._run.step(told)
         if word == "beats":
             return self._run.beats()
         if word == "faults":

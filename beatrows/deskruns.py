@@ -21,7 +21,7 @@ class ByAsking:
             return (self._asker.row(self._asker.beats() - 1), [])
         return ({}, self._asker.faults()[1])
 
-    def kept(self):
+    def cells(self):
         """The cells; refused with NoCells, as there are none."""
         raise NoCells(None)
 
@@ -36,7 +36,7 @@ class ByLoop:
         row = self.loop.step(given)
         return ({}, self.loop.faults()[1]) if row is None else (row, [])
 
-    def kept(self):
+    def cells(self):
         return self.loop.cells()
 
 
@@ -53,7 +53,7 @@ class ByPart:
         faults = self._part.close()
         return ({}, faults) if faults else (self._part.row(), [])
 
-    def kept(self):
+    def cells(self):
         return self._part.cells()
 
 
@@ -66,7 +66,7 @@ class Run:
         self._told = []
         self._faults = []
 
-    def beat(self, told):
+    def step(self, told):
         """One beat by names and values; refused with Twice, Unknown, NoBeats, and NoInput."""
         values = pairs_of(told)
         for name in values:
@@ -99,7 +99,7 @@ class Run:
 
     def cells(self):
         """Refused with NoCells."""
-        return _texts_of(self._way.kept())
+        return _texts_of(self._way.cells())
 
     def stood(self, told):
         """Another run, by the loop that stands at cells of these names and values; refused with NoCells and Twice."""

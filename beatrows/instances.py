@@ -158,7 +158,7 @@ class Instance:
 
     def _ticks_of(self, truth):
         """Whether a clock ticks of which this is the last name, None where this can't be told."""
-        if truth is None or self._ticks is not True:
+        if truth is None:
             return self._ticks
         return None if is_gone(self._states[truth]) else self._states[truth][1] is True
 

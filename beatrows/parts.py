@@ -31,7 +31,7 @@ class Part:
         """The value of an input at this beat, None where it is lost; of any things."""
         if not self._is_open or self._ticks is not True:
             raise NoBeats(self._beats)
-        if not isinstance(name, str) or name not in self._node.inputs():
+        if name not in self._node.inputs():
             raise Unknown(name)
         if not self._instance.lacks(name):
             raise Twice(name)
@@ -43,7 +43,7 @@ class Part:
         """Those inputs on which an out hangs that aren't given yet; of any thing."""
         if not self._is_open:
             raise NoBeats(self._beats)
-        if not isinstance(out, str) or out not in self._node.outs():
+        if out not in self._node.outs():
             raise Unknown(out)
         return self._instance.lacking(out)
 
@@ -61,7 +61,7 @@ class Part:
         for name in self._node.inputs():
             if self._instance.lacks(name):
                 raise NotYet(self._node.name, name)
-        faults = sorted(list(self._instance.faults().items()))
+        faults = sorted(self._instance.faults().items())
         self._is_open = False
         if faults:
             self._is_over = True

@@ -528,10 +528,12 @@ class BeatTest(DeskCase):
 
     def test_two_hundred_beats_and_one_more(self):
         for word in self.KINDS:
-            made = desk("node n in a out x\nx = before 0 a", f"{word} n")
+            made = desk("node n in a c out x\nx = before 0 a", f"{word} n")
             for beat in range(200):
-                self.says(made, f"beat a {beat}", f"a {beat}", f"x {max(0, beat - 1)}")
-            self.refused(made, "beat a 1", NoBeats, found=200)
+                self.says(made, f"beat c 1 a {beat}", f"a {beat}", "c 1", f"x {max(0, beat - 1)}")
+            for line in ("beat a 1 c 1", "beat a 1", "beat c 1"):
+                self.refused(made, line, NoBeats, found=200)
+            self.refused(made, "beat c 1 c 1", Twice, name="c")
             self.refused(made, "beat x 1", Unknown, name="x")
             self.says(made, "beats", "200")
             self.says(made, "faults")

@@ -49,10 +49,12 @@ w = before 0 z"""
 BAD = {
     "two": "y = a when c\nx = ( y + a )", "hold": "x = hold 0 a", "none": "x = x",
     "same": "y = a when c\nsame y a\nx = a", "ring": "x = ( y + a )\ny = x", "hidden": "k = ( a < 1 )\nx = a when k",
-    "sound": "x = ( a + 1 )",
+    "args": "y = a when c\nx k = call pair y a", "sound": "x = ( a + 1 )",
 }
-KINDS = {"two": NoFit, "hold": NoFit, "none": NoClock, "same": NoFit, "ring": Ring, "hidden": Hidden}
-ORDER = [["two", "hold"], ["none"], ["same"], ["ring"], ["hidden"]]
+# Called by the rows for args.
+PAIR = "node pair in a b out x y\nx = a\ny = b"
+KINDS = {"two": NoFit, "hold": NoFit, "none": NoClock, "same": NoFit, "args": NoFit, "ring": Ring, "hidden": Hidden}
+ORDER = [["two", "hold"], ["none"], ["same", "args"], ["ring"], ["hidden"]]
 ASKED = {
     "clocks": (clocks_by,), "reads": (reads_by,), "order": (order_by,), "sound": (sound_by,),
     "is_order": (is_order_by, ["a"]), "is_ring": (is_ring_by, ["a"]), "is_clash": (is_clash_by, ()),
@@ -66,7 +68,8 @@ DUE = {
 
 
 def program(*texts):
-    return read_program("\n".join(texts))
+    texts = ("\n".join(texts),)
+    return read_program("\n".join([PAIR, *texts] if "call pair" in texts[0] else texts))
 
 
 def bad(name, *words):
@@ -95,8 +98,8 @@ class FittingCase(BeatCase):
         """The refusal is what this word tells of the node of this name."""
         self.assertIs(type(refusal), KINDS[word])
         node = made.named(name)
-        if word in ("two", "hold", "same"):
-            self.assertEqual(refusal.paper[0], word)
+        if word in ("two", "hold", "same", "args"):
+            self.assertEqual(refusal.paper[0], "same" if word == "args" else word)
             self.assertIs(is_clash_by(made, name, refusal.paper), True)
         elif word == "ring":
             self.assertIs(is_ring_by(made, name, refusal.paper), True)
@@ -120,6 +123,13 @@ class ClocksTest(FittingCase):
         self.assert_exact(clocks_by(made, "low"), {
             "a": (), "c": (), "x": ("c",), "o": (), "v": ("c",), "y": ("c", "v"), "z": (), "k": ("c", "v"),
         })
+
+    def test_args_on_a_clock_of_several_names(self):
+        head = "\nnode n in p q r out u\nu = p when q\nv = r when q\nk = ( u < 3 )\n"
+        head += "s = u when k\nt = ( u = v )\nw = t when k\n"
+        self.clocks(LOW + head + "d e f g h i = call low s w\nj = hold 0 g\nl = hold 0 j\nm = hold 1 l", s="q k",
+                    w="q k",
+                    d="q k w", e="q k", f="q k w", g="q k w f", h="q k", i="q k w f", j="q k w", l="q k", m="q")
 
     def test_a_node_without_calls_has_the_clocks_of_its_own(self):
         made = program(LOW)
@@ -184,6 +194,7 @@ class RefusedTest(FittingCase):
             ("ring", ["clocks", "reads", "is_order", "is_ring", "is_clash"]),
             ("hidden", ["clocks", "reads", "order", "sound", "is_order", "is_ring", "is_clash"]),
             ("two", ["is_clash"]), ("hold", ["is_clash"]), ("none", ["is_clash"]), ("same", ["is_clash"]),
+            ("args", ["is_clash"]),
         ]:
             for each in asked:
                 ask(self, each, program(bad("n", word)), "n")
@@ -436,7 +447,7 @@ class ManyTest(FittingCase):
     def test_programs_sound_and_spoilt(self):
         chance = random.Random(91)
         seen = {}
-        while min([seen.get(word, 0) for word in KINDS], default=0) < 3 or seen.get("sound", 0) < 200:
+        while min(seen.get(word, 0) for word in KINDS if word != "args") < 3 or seen.get("sound", 0) < 200:
             made, _ = sound_program(chance, chance.randint(1, 4), 9)
             for _ in range(chance.randint(0, 2)):
                 made = spoilt_program(chance, made)
