@@ -295,6 +295,11 @@ class ClashTest(BeatCase):
         for word in ("two", "hold", "sames", False):
             self.wrong(SAME, word, [a, z], "a", "z")
 
+    def test_names_of_a_row_of_another_kind_are_not_same(self):
+        steps = [("a", (), None), ("y", ("c",), "a"), ("z", ("b",), "a")]
+        for one, other in [("y", "a"), ("a", "y"), ("y", "z"), ("z", "y")]:
+            self.wrong(TWO, "same", steps, one, other)
+
     def test_same_of_names_in_unlike_rows(self):
         node = read_node("node n in a b c out y\ny = a when c\nz = a when b\nsame y y\nsame z y")
         steps = [("a", (), None), ("b", (), None), ("y", ("c",), "a"), ("z", ("b",), "a")]
