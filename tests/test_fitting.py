@@ -88,7 +88,7 @@ def caller(name, called, outs=1):
     return f"node {name} in a c out pr\n{told} = call {called} a c"
 
 
-def ask(case, word, made, name):
+def ask(word, made, name):
     call, *given = ASKED[word]
     return call(made, name, *given)
 
@@ -186,7 +186,7 @@ class RefusedTest(FittingCase):
                         made = program(bad("n", *pair))
                         for asked, due in DUE.items():
                             if level < due:
-                                refusal = self.refusal(KINDS[word], ask, self, asked, made, "n")
+                                refusal = self.refusal(KINDS[word], ask, asked, made, "n")
                                 self.assert_bad(word, refusal, made, "n")
 
     def test_what_is_not_asked_for_is_no_refusal(self):
@@ -197,7 +197,7 @@ class RefusedTest(FittingCase):
             ("args", ["is_clash"]),
         ]:
             for each in asked:
-                ask(self, each, program(bad("n", word)), "n")
+                ask(each, program(bad("n", word)), "n")
 
     def test_the_same_by_calls(self):
         low = "node low in a c out x y\nx = ( a + c )\ny = a when c"
@@ -207,7 +207,7 @@ class RefusedTest(FittingCase):
         ]:
             made = program(low + "\nnode n in a c out u\n" + rows)
             for asked in ("clocks", "reads", "order", "sound", "is_order", "is_ring", "summary"):
-                paper = self.refusal(NoFit, ask, self, asked, made, "n").paper
+                paper = self.refusal(NoFit, ask, asked, made, "n").paper
                 self.assertEqual(paper[0], word)
                 self.assertIn(paper[2], names.split(" "))
                 self.assertIs(is_clash_by(made, "n", paper), True)
@@ -218,7 +218,7 @@ class RefusedTest(FittingCase):
                 texts = bad("low", below), bad("n", own) + "\npr = call low a c"
                 made = program(*texts)
                 for asked in ASKED:
-                    self.assert_bad(below, self.refusal(KINDS[below], ask, self, asked, made, "n"), made, "low")
+                    self.assert_bad(below, self.refusal(KINDS[below], ask, asked, made, "n"), made, "low")
 
     def test_the_first_node_below_in_the_programs_order(self):
         words = list(KINDS)
@@ -230,7 +230,7 @@ class RefusedTest(FittingCase):
                     made = program(*texts, "\n".join(["node n in a c out xr", *order]), caller("top", "n"))
                     for asked in ASKED:
                         for name in ("n", "top"):
-                            refusal = self.refusal(KINDS[first], ask, self, asked, made, name)
+                            refusal = self.refusal(KINDS[first], ask, asked, made, name)
                             self.assert_bad(first, refusal, made, "first")
 
     def test_a_node_below_by_what_it_is_refused_by_itself(self):
@@ -238,17 +238,17 @@ class RefusedTest(FittingCase):
         for word in KINDS:
             made = program(bad("low", word), caller("mid", "low"), caller("n", "mid"))
             for asked in ASKED:
-                self.assert_bad(word, self.refusal(KINDS[word], ask, self, asked, made, "n"), made, "low")
+                self.assert_bad(word, self.refusal(KINDS[word], ask, asked, made, "n"), made, "low")
         mid = "node mid in a out x\nd e f g h i = call low a x\nx = ( e & a )"
         made = program(LOW, mid, "node n in a out x\nx = call mid a")
         for asked in ASKED:
-            paper = self.refusal(Ring, ask, self, asked, made, "n").paper
+            paper = self.refusal(Ring, ask, asked, made, "n").paper
             self.assertEqual(sorted(paper), ["e", "x"])
 
     def test_nodes_that_are_not_below_are_not_looked_at(self):
         made = program(bad("low", "two"), bad("n", "sound"), bad("other", "ring"))
         for asked in ASKED:
-            ask(self, asked, made, "n")
+            ask(asked, made, "n")
 
     def test_unknown_of_any_strange_thing(self):
         made = program(TOP, bad("n", "two"))

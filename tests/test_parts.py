@@ -345,7 +345,6 @@ class CloseTest(BeatCase):
             part = Part(made, "top")
             (faults,) = closed(part, row)
             self.assertEqual(", ".join(f"{name} {word}" for name, word in faults), wanted)
-            self.assert_new_list(lambda: list(faults), faults)
             self.assertEqual((part.beats(), part.cells()), (0, Loop(written_out(made, "top")).cells()))
             self.assert_refused(NoBeats, {"found": 0}, part.row)
 
