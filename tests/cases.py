@@ -389,6 +389,27 @@ class Played:
         return had[-1] if had else value
 
 
+def spoilt(chance, thing, node):
+    """The thing with something in it put otherwise, by chance; sometimes nothing that matters."""
+    some = [*node.names(), None, (), ("a",), [], "two", "hold", "same", True, 0, "none", ["a"], {"a": 1}]
+    if isinstance(thing, (list, tuple)) and thing and chance.random() < 0.9:
+        inner = list(thing)
+        at = chance.randrange(len(inner))
+        deed = chance.choice(["in", "in", "in", "in", "in", "out", "twice", "move", "kind"])
+        if deed == "in":
+            inner[at] = spoilt(chance, inner[at], node)
+        elif deed == "out":
+            inner.pop(at)
+        elif deed == "twice":
+            inner.insert(chance.randrange(len(inner) + 1), inner[at])
+        elif deed == "move":
+            inner.insert(chance.randrange(len(inner)), inner.pop(at))
+        else:
+            return tuple(inner) if isinstance(thing, list) else inner
+        return type(thing)(inner)
+    return chance.choice(some)
+
+
 class Fitted:
     """What each node of a program tells of itself, worked out from the document's words alone.
 

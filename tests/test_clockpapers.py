@@ -6,7 +6,7 @@ from beatrows.clocks import clock_paper, clocks_of
 from beatrows.errors import NoClock, NoFit
 from beatrows.nodetext import read_node
 
-from cases import BeatCase, nested, no_texts, some_node, wild_texts
+from cases import BeatCase, nested, no_texts, some_node, spoilt, wild_texts
 
 RIGHT = read_node("""node n in a c out x
 y = a when c
@@ -84,27 +84,6 @@ def is_right_clash(node, thing):
     if word == "same":
         return unlike and one != other and any(row[0] == "same" and one in row[1] and other in row[1] for row in rows)
     return False
-
-
-def spoilt(chance, thing, node):
-    """The thing with something in it put otherwise, by chance; sometimes nothing that matters."""
-    some = [*node.names(), None, (), ("a",), [], "two", "hold", "same", True, 0, "none", ["a"], {"a": 1}]
-    if isinstance(thing, (list, tuple)) and thing and chance.random() < 0.9:
-        inner = list(thing)
-        at = chance.randrange(len(inner))
-        deed = chance.choice(["in", "in", "in", "in", "in", "out", "twice", "move", "kind"])
-        if deed == "in":
-            inner[at] = spoilt(chance, inner[at], node)
-        elif deed == "out":
-            inner.pop(at)
-        elif deed == "twice":
-            inner.insert(chance.randrange(len(inner) + 1), inner[at])
-        elif deed == "move":
-            inner.insert(chance.randrange(len(inner)), inner.pop(at))
-        else:
-            return tuple(inner) if isinstance(thing, list) else inner
-        return type(thing)(inner)
-    return chance.choice(some)
 
 
 class PaperTest(BeatCase):

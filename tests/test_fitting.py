@@ -9,7 +9,7 @@ from beatrows.programs import read_program
 from beatrows.reading import reads_of
 from beatrows.telling import cells_in, summary_of
 
-from cases import BeatCase, Fitted, nested, no_texts, sound_program, spoilt_program, wild_texts
+from cases import BeatCase, Fitted, nested, no_texts, sound_program, spoilt, spoilt_program, wild_texts
 
 # Outs on clocks of none, one and two names; the way from k to a leads through its clock alone.
 LOW = """node low in a c out x o v y z k
@@ -480,6 +480,49 @@ class ManyTest(FittingCase):
         self.assert_exact(list(reads_by(made, name).items()), list(fitted.reads[name].items()))
         self.assertIs(is_order_by(made, name, order_by(made, name)), True)
         return ["sound"]
+
+    def test_spoilt_clashes(self):
+        chance = random.Random(93)
+        seen = [0, 0]
+        while min(seen) < 150:
+            made, _ = sound_program(chance, chance.randint(2, 4), 9)
+            name = made.names()[-1]
+            made = spoilt_program(chance, made)
+            try:
+                clocks_by(made, name)
+            except NoFit as refusal:
+                fitted = Fitted(made)
+                if name in fitted.refusals and made.named(name).has_calls():
+                    for _ in range(8):
+                        other = spoilt(chance, refusal.paper, made.named(name))
+                        wanted = self.is_right_clash(fitted, made.named(name), other)
+                        self.assertIs(is_clash_by(made, name, other), wanted, (made.told(), other))
+                        seen[wanted] += 1
+            except BeatError:
+                pass
+
+    def is_right_clash(self, fitted, node, thing):
+        """Whether a thing is a clash, by the document's words alone."""
+        if not isinstance(thing, tuple) or len(thing) != 4 or not isinstance(thing[1], list):
+            return False
+        word, steps, one, other = thing
+        for at, step in enumerate(steps):
+            if not isinstance(step, tuple) or len(step) != 3:
+                return False
+            led = [(name, (), None) for name in node.inputs()]
+            for name, clock, _ in steps[:at]:
+                led += [(*each, name) for row in node.rows() for each in fitted.led(row, name, clock)]
+            if step not in led:
+                return False
+        ones, others = [[clock for name, clock, _ in steps if name == each] for each in (one, other)]
+        unlike = any(first != second for first in ones for second in others)
+        rows = [row.told() for row in node.rows()]
+        if word == "two":
+            return one == other and unlike
+        if word == "hold":
+            return () in others and any(row[0] == "hold" and (row[1], row[3]) == (one, other) for row in rows)
+        groups = [row[-1] for row in rows if row[0] in ("same", "call")]
+        return word == "same" and unlike and one != other and any(one in group and other in group for group in groups)
 
     def test_nodes_without_calls_are_sound_just_where_they_are_alone(self):
         chance = random.Random(92)
